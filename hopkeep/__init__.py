@@ -1,0 +1,1 @@
+"""Hopkeep: rows of caches between readers and an origin."""
