@@ -11,13 +11,13 @@ class Draft:
     """A message of which the start line is known; the rest is added as it is read."""
 
     def __init__(self, head):
-        self.total = 0
         self._head = head
         self._framing = None
+        self._total = 0
         self._fields = []
         self._texts = []
 
-    def take_field(self, line, in_trailer):
+    def take_field(self, line):
         """Adds a field line or the framing line; returns the kind of its fault or None."""
         name, colon, rest = line.partition(":")
         name = name.lower()
@@ -25,7 +25,7 @@ class Draft:
         if colon == "":
             return "field"
         if name == "length":
-            return self._take_framing(value, in_trailer)
+            return self._take_framing(value)
         if not is_field_name(name) or not is_value(value):
             return "field"
         if len(self._fields) == Message.MOST_FIELDS:
@@ -33,11 +33,10 @@ class Draft:
         self._fields.append((name, value))
         return None
 
-    def _take_framing(self, value, in_trailer):
+    def _take_framing(self, value):
         number = read_number(value)
-        if in_trailer or self._framing is not None:
-            return "length"
-        if number is None and value != CHUNKS:
+        # A message with a trailer has a framing line already, so this refuses one in a trailer, too.
+        if self._framing is not None or (number is None and value != CHUNKS):
             return "length"
         if not self._head.may_have_body and number != 0:
             return "length"
@@ -53,6 +52,13 @@ class Draft:
         if isinstance(self._head, Response) and self._head.may_have_body:
             return OPEN_END
         return 0
+
+    def take_size(self, size):
+        """Adds the size of a chunk; returns the kind of its fault or None."""
+        self._total += size
+        if self._total > Message.MOST_BODY:
+            return "long"
+        return None
 
     def add_text(self, text):
         """Adds characters of the body."""

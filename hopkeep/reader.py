@@ -44,6 +44,8 @@ class Reader:
         """Reads the characters of a piece; the list of the messages that they complete."""
         if self._over:
             raise ReaderClosed()
+        if self._fault is not None:
+            return []
         done = []
         end = allowed_length(piece)
         at = 0
@@ -105,7 +107,7 @@ class Reader:
         if self._stage == "size":
             return self._take_size(line)
         if line != "":
-            return self._draft.take_field(line, self._stage == "trailer")
+            return self._draft.take_field(line)
         if self._stage == "trailer":
             self._complete(done)
         else:
@@ -136,12 +138,9 @@ class Reader:
         size = read_number(line)
         if size is None:
             return "chunk"
-        self._draft.total += size
-        if self._draft.total > Message.MOST_BODY:
-            return "long"
         self._lacking = size
         self._stage = "trailer" if size == 0 else "chunk"
-        return None
+        return self._draft.take_size(size)
 
     def _read_text(self, piece, at, end, done):
         behind = min(end, at + self._lacking)

@@ -276,6 +276,18 @@ class FaultTest(unittest.TestCase):
         self.breaks("answers", head + "x" * 100001, "long", 16)
         self.breaks("answers", "answer done\n\n" + head + "\n" * 100001, "long", 29, 1)
 
+    def test_long_open_end_in_pieces(self):
+        reader = Reader("answers")
+        for piece in ("answer done\n\nanswer missing\n\nxx", "", "x" * 90000, "\n" * 9998):
+            reader.feed(piece)
+        self.assertEqual((reader.stage, reader.fault), ("body", None))
+        reader.feed("x")
+        self.assertEqual((reader.stage, reader.fault), ("broken", ("long", 29)))
+        reader = Reader("answers")
+        reader.feed("answer missing\n\nxx")
+        reader.feed("x" * 99998)
+        self.assertEqual(reader.finish(), [Response("missing", (), "x" * 100000)])
+
     def test_messages_before_the_fault(self):
         reader = Reader("asks")
         done = reader.feed("ask get /a\n\nask get /b\n\nask\nask get /c\n\n")
