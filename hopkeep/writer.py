@@ -10,7 +10,7 @@ def write_message(message, *, chunks=None, trailer=0, open_end=False):
         raise InvalidFraming()
     if chunks is not None:
         return write_chunked(message, chunks, trailer)
-    lines = [message.start, *field_lines(message.fields)]
+    lines = [message.start] + field_lines(message.fields)
     if message.may_have_body and not open_end:
         lines.append(f"length: {len(message.body)}")
     return "\n".join([*lines, "", message.body])
@@ -30,7 +30,7 @@ def is_framing(message, chunks, trailer, open_end):
 def write_chunked(message, sizes, trailer):
     """The message with its body in chunks and its last fields behind them."""
     early = len(message.fields) - trailer
-    lines = [message.start, *field_lines(message.fields[:early]), "length: chunks", ""]
+    lines = [message.start] + field_lines(message.fields[:early]) + ["length: chunks", ""]
     for chunk in chunk_texts(message.body, sizes):
         lines.extend([str(len(chunk)), chunk])
     lines.append("0")

@@ -141,9 +141,7 @@ class ReadPartsTest(unittest.TestCase):
 
     def test_fields(self):
         body = "part 0-0/9\na\npart 5-5/9\nb\n"
-        one, two = ("part", "0-26/99"), ("parts", "2")
-        self.assertEqual(len(body), 26)
-        one = ("part", "0-25/99")
+        one, two = ("part", "0-25/99"), ("parts", "2")
         self.assertEqual(len(read_parts(parts([one], body))[1]), 1)
         self.assertEqual(len(read_parts(parts([two], body))[1]), 2)
         for fields in ([], [one, two], [two, one], [one, one], [two, two], [one, two, two], [one, one, two]):
@@ -201,7 +199,7 @@ class ReadPartsTest(unittest.TestCase):
         self.refuses([("parts", "3")], "part 0-0/9\na\npart 5-6/9\nab\npart 2-2/9\nc\n")
 
 
-def dearest(spans, cost):
+def price(spans, cost):
     return spans.size + cost * len(spans)
 
 
@@ -238,10 +236,10 @@ class CheapestTest(unittest.TestCase):
             for cost in range(5):
                 found = cheapest_ranges(missing, cost)
                 fits = [one for one in covers if not missing - one]
-                least = min(dearest(one, cost) for one in fits)
-                most = max(len(one) for one in fits if dearest(one, cost) == least)
+                least = min(price(one, cost) for one in fits)
+                most = max(len(one) for one in fits if price(one, cost) == least)
                 self.assertFalse(missing - found)
-                self.assertEqual((dearest(found, cost), len(found)), (least, most))
+                self.assertEqual((price(found, cost), len(found)), (least, most))
             self.assertEqual(missing.pairs(), before)
 
 

@@ -202,7 +202,7 @@ class FaultTest(unittest.TestCase):
     def test_start(self):
         for line in (" ", "ask", "ask get", "ask get ", "ask  get /", " ask get /", "ask get / ",
                      "ask get / x", "ask post /", "ask Get /", "Ask get /", "ask get a", "ask get /A",
-                     "answer ok", "ask get /" + "a" * 60, "ask get /%"[:-1] + "?", "ask: get /"):
+                     "answer ok", "ask get /" + "a" * 60, "ask get /?", "ask: get /"):
             self.breaks("asks", "\n" + line + "\n", "start", 1)
         for line in ("answer", "answer ", "answer lost", "answer OK", "answer  ok", "answer ok ",
                      " answer ok", "ask get /", "answer ok ok"):
