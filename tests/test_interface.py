@@ -8,6 +8,8 @@ import unittest
 
 PACKAGE = pathlib.Path(__file__).resolve().parent.parent / "hopkeep"
 
+MAKE = ("(*, shared=True, grace=0, error_grace=0, tells=True, dates=False, checks=True, share=0, cap=0, "
+        "durable=False, room=8)")
 FUNCTIONS = {
     "fields.is_plain": "(text)", "fields.is_path": "(text)", "fields.is_field_name": "(text)",
     "fields.is_value": "(text)", "fields.list_elements": "(text)", "fields.read_number": "(text)",
@@ -34,15 +36,37 @@ FUNCTIONS = {
     "ranges.read_ranges": "(text)", "ranges.resolve": "(ranges, length)",
     "ranges.answer_ranges": "(content, text, *, gap=0)", "ranges.read_parts": "(response)",
     "ranges.cheapest_ranges": "(missing, cost)", "ranges.write_ranges": "(spans)",
+    "partial.Partial": "(mark, length)", "partial.Partial.put": "(self, start, text)",
+    "partial.Partial.have": "(self)", "partial.Partial.lacking": "(self)", "partial.Partial.whole_text": "(self)",
+    "partial.Partial.stretch": "(self, start, end)", "partial.Partial.copy": "(self)",
+    "partial.Partial.join": "(self, other)", "partial.Partial.joined": "(self, other)",
+    "variants.Variant": "(form, tongue, coding, content, *, weight=1000)", "variants.read_preferences": "(text)",
+    "variants.quality": "(preferences, word)", "variants.choose": "(variants, request)",
+    "variants.ranking": "(variants, request)",
+    "keys.varied_names": "(response)", "keys.key_of": "(names, request)",
+    "directives.Directives.read": "(text)", "directives.Directives.of": "(message)",
+    "ages.told_age": "(message)", "ages.current_age": "(initial, arrived, now)",
+    "makes.Make": MAKE, "makes.Make.but": "(self, **settings)",
+    "makes.Make.lifetime": "(self, directives, date, changed)", "makes.Make.keeps": "(self, wish, directives)",
+    "makes.Make.allowance": "(self, wish, directives)", "makes.Make.error_allowance": "(self, wish, directives)",
+    "makes.Make.initial_age": "(self, told, date, arrived)",
+    "makes.Make.use": "(self, wish, directives, age, lifetime)",
+    "makes.Make.error_use": "(self, wish, directives, age, lifetime)",
+    "makes.StrictMake": MAKE, "makes.StrictMake.allowance": "(self, wish, directives)",
+    "makes.StrictMake.error_allowance": "(self, wish, directives)",
+    "makes.OwnMake": MAKE.replace("shared=True", "shared=False"),
 }
 PROPERTIES = ["messages.Message.may_have_body", "messages.Message.start", "reader.Reader.stage",
               "reader.Reader.fault", "reader.Reader.completed", "pipe.Pipe.waiting", "pipe.Pipe.fault",
-              "conditions.Conditions.none", "conditions.Conditions.binding", "spans.Spans.size"]
+              "conditions.Conditions.none", "conditions.Conditions.binding", "spans.Spans.size",
+              "partial.Partial.whole"]
 OPERATORS = {"messages.Message": ["__eq__", "__str__"], "marks.Mark": ["__eq__", "__str__"],
              "marks.MarkList": ["__add__", "__len__"],
-             "spans.Spans": ["__or__", "__and__", "__sub__", "__contains__", "__eq__", "__len__", "__bool__"]}
+             "spans.Spans": ["__or__", "__and__", "__sub__", "__contains__", "__eq__", "__len__", "__bool__"],
+             "makes.Make": ["__init__", "__eq__"], "makes.StrictMake": ["__init__"], "makes.OwnMake": ["__init__"]}
 DECORATED = {"messages.Request.fetch": classmethod, "conditions.Conditions.of": classmethod,
-             "marks.Mark.read": staticmethod, "marks.MarkList.read": staticmethod}
+             "marks.Mark.read": staticmethod, "marks.MarkList.read": staticmethod,
+             "directives.Directives.read": staticmethod, "directives.Directives.of": classmethod}
 
 
 def found(place):

@@ -190,7 +190,14 @@ class NamesTest(unittest.TestCase):
         known |= {one.targets[0].id for _, kind in nodes(ast.ClassDef) for one in kind.body
                   if isinstance(one, ast.Assign)}
         for place, node in nodes(ast.Attribute):
-            self.assertIn(node.attr, known, place)
+            if not ast.unparse(node).endswith((".__class__", ".__class__.__name__")):
+                self.assertIn(node.attr, known, place)
+
+    def test_classes_are_only_asked_for_their_names(self):
+        found = nodes(ast.Attribute)
+        outer = {id(node.value) for _, node in found if node.attr == "__name__"}
+        for place, node in found:
+            self.assertTrue(node.attr != "__class__" or id(node) in outer, place)
 
     def test_lists_instead_of_generators(self):
         for place, node in nodes(ast.Call):
