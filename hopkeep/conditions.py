@@ -93,9 +93,9 @@ def read_marks_field(request, name):
         return MarkList([])
 
 
-def read_reading_field(request, name):
+def read_reading_field(message, name):
     """The reading in a field, None if there is none."""
-    text = request.joined(name)
+    text = message.joined(name)
     if text is None:
         return None
     return read_reading(text)

@@ -55,15 +55,32 @@ FUNCTIONS = {
     "makes.StrictMake": MAKE, "makes.StrictMake.allowance": "(self, wish, directives)",
     "makes.StrictMake.error_allowance": "(self, wish, directives)",
     "makes.OwnMake": MAKE.replace("shared=True", "shared=False"),
+    "kinds.Kind": "(lasts, *, shared_lasts=None, late=0, on_error=0, strict=False, check=False, own=False, "
+                  "never=False, mark='strong', dated=False, margin=0)",
+    "kinds.Kind.keep_field": "(self)", "kinds.serve_limit": "(make, kind, *, on_error=False)",
+    "settings.Clock": "(behind=0, ahead=0)", "settings.Clock.reading": "(self, time, offset)",
+    "settings.Setting": "(makes, kind, *, clocks=None, delays=None, loses=False)",
+    "settings.Setting.part": "(self, first, last)",
+    "cache.Cache": "(make)", "cache.Cache.ask": "(self, request, now)",
+    "cache.Cache.answer": "(self, ticket, response, now)", "cache.Cache.drop": "(self, path)",
+    "cache.Cache.stop": "(self)", "cache.Cache.listed": "(self, now)",
+    "origin.Origin": "(kind)", "origin.Origin.place": "(self, path, variants, now, *, time=0)",
+    "origin.Origin.change": "(self, path, text, now, *, alike=False, time=0)",
+    "origin.Origin.erase": "(self, path, *, time=0)", "origin.Origin.answer": "(self, request, now, *, time=0)",
+    "origin.Origin.lateness": "(self, path, text, time)",
+    "row.Row": "(setting, pages)", "row.Row.play": "(self, event)", "row.Row.clock_offsets": "(self)",
+    "row.Row.link_delays": "(self)",
 }
 PROPERTIES = ["messages.Message.may_have_body", "messages.Message.start", "reader.Reader.stage",
               "reader.Reader.fault", "reader.Reader.completed", "pipe.Pipe.waiting", "pipe.Pipe.fault",
               "conditions.Conditions.none", "conditions.Conditions.binding", "spans.Spans.size",
-              "partial.Partial.whole"]
+              "partial.Partial.whole", "settings.Clock.span", "settings.Setting.hops", "settings.Setting.calm",
+              "cache.Cache.many", "cache.Cache.open_tickets", "origin.Origin.paths", "row.Row.time", "row.Row.log"]
 OPERATORS = {"messages.Message": ["__eq__", "__str__"], "marks.Mark": ["__eq__", "__str__"],
              "marks.MarkList": ["__add__", "__len__"],
              "spans.Spans": ["__or__", "__and__", "__sub__", "__contains__", "__eq__", "__len__", "__bool__"],
-             "makes.Make": ["__init__", "__eq__"], "makes.StrictMake": ["__init__"], "makes.OwnMake": ["__init__"]}
+             "makes.Make": ["__init__", "__eq__"], "makes.StrictMake": ["__init__"], "makes.OwnMake": ["__init__"],
+             "cache.Cache": ["__contains__"]}
 DECORATED = {"messages.Request.fetch": classmethod, "conditions.Conditions.of": classmethod,
              "marks.Mark.read": staticmethod, "marks.MarkList.read": staticmethod,
              "directives.Directives.read": staticmethod, "directives.Directives.of": classmethod}

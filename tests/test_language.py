@@ -207,8 +207,9 @@ class NamesTest(unittest.TestCase):
 
     def test_handlers_catch_own_errors(self):
         for place, node in nodes(ast.ExceptHandler):
-            self.assertIsInstance(node.type, ast.Name, place)
-            self.assertFalse(hasattr(builtins, node.type.id), place)
+            for one in node.type.elts if isinstance(node.type, ast.Tuple) else [node.type]:
+                self.assertIsInstance(one, ast.Name, place)
+                self.assertFalse(hasattr(builtins, one.id), place)
 
     def test_len_returns_a_length(self):
         for place, node in nodes(ast.FunctionDef):

@@ -132,7 +132,7 @@ class LifetimeTest(unittest.TestCase):
         for share, cap, date, changed, wanted in (
                 (50, 99, 100, 90, 5), (50, 99, 100, 89, 5), (50, 99, 100, 88, 6), (1, 99, 199, 100, 0),
                 (1, 99, 200, 100, 1), (100, 99, 100, 50, 50), (100, 50, 100, 50, 50), (100, 49, 100, 50, 49),
-                (100, 51, 100, 50, 50), (100, 0, 100, 50, 0), (0, 99, 100, 50, 0), (50, 99, 50, 50, 0),
+                (100, 51, 100, 50, 50), (100, 0, 100, 50, 0), (0, 99, 100, 50, 0), (100, 99, 50, 50, 0),
                 (50, 99, 49, 50, 0), (50, 99, -100, 50, 0), (50, 99, -10, -30, 10), (99, 999, 199, 100, 98)):
             make = Make(share=share, cap=cap)
             self.assertEqual(make.lifetime(NO_WISH, date, changed), wanted)
@@ -147,9 +147,10 @@ class LifetimeTest(unittest.TestCase):
 
 class KeepsTest(unittest.TestCase):
     def test_keeps(self):
-        for wish, text, shared, alone in (("", "", True, True), ("never", "", False, False), ("", "never", False, False),
-                                          ("never", "never", False, False), ("", "own", False, True),
-                                          ("own", "", True, True), ("", "own, never", False, False),
+        for wish, text, shared, alone in (("", "", True, True), ("never", "", False, False),
+                                          ("", "never", False, False), ("never", "never", False, False),
+                                          ("", "own", False, True), ("own", "", True, True),
+                                          ("", "own, never", False, False),
                                           ("check", "strict, check, lasts=0", True, True)):
             for make in (Make(), StrictMake()):
                 self.assertIs(make.keeps(d(wish), d(text)), shared)
@@ -217,7 +218,8 @@ class UseTest(unittest.TestCase):
         for make, wish, text, wanted in (
                 (Make(), "", "", "ffccccc EE-----"), (Make(grace=1), "", "", "fflcccc EEE----"),
                 (Make(grace=2), "", "", "ffllccc EEEE---"), (Make(grace=None), "", "", "fflllll EEEEEEE"),
-                (Make(error_grace=2), "", "", "ffccccc EEEE---"), (Make(grace=1, error_grace=3), "", "", "fflcccc EEEEE--"),
+                (Make(error_grace=2), "", "", "ffccccc EEEE---"),
+                                         (Make(grace=1, error_grace=3), "", "", "fflcccc EEEEE--"),
                 (Make(grace=3, error_grace=1), "", "", "fflllcc EEEEE--"), (Make(), "late=1", "", "fflcccc EEE----"),
                 (Make(), "late", "", "fflllll EEEEEEE"), (Make(), "", "late=2", "ffllccc EEEE---"),
                 (Make(), "", "late", "ffccccc EE-----"), (Make(), "", "on-error=3", "ffccccc EEEEE--"),
