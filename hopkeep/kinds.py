@@ -48,14 +48,19 @@ def is_amount(number):
     return 0 <= number <= MOST_NUMBER
 
 
+def is_kept(make, kind):
+    """True if a make keeps the answer to a plain request."""
+    return make.keeps(Directives.read(None), Directives.read(kind.keep_field()))
+
+
 def serve_limit(make, kind, *, on_error=False):
     """The age from which a kept answer is not served to a plain request, None if there is no limit."""
     if kind.lasts is None and (kind.shared_lasts is None or not make.shared):
         raise NoLifetime()
+    if kind.check or not is_kept(make, kind):
+        return 0
     wish = Directives.read(None)
     directives = Directives.read(kind.keep_field())
-    if directives.check or not make.keeps(wish, directives):
-        return 0
     if on_error:
         allowance = make.error_allowance(wish, directives)
     else:

@@ -3,13 +3,11 @@
 from hopkeep.ages import told_age
 from hopkeep.cache import Cache
 from hopkeep.errors import InvalidEvent, InvalidValue
-from hopkeep.events import is_event
+from hopkeep.events import is_allowed, is_event
 from hopkeep.fields import is_path
 from hopkeep.links import Link
 from hopkeep.messages import is_body
 from hopkeep.origin import Origin, plain_variant
-
-MOST_WAIT = 100000
 
 
 class Row:
@@ -50,7 +48,7 @@ class Row:
 
     def play(self, event):
         """Carries out an event; the response to an ask, None for other events."""
-        if not is_event(event) or not self._allows(event[0], event[1:]):
+        if not is_event(event) or not is_allowed(self.setting, event) or not self._finds_content(event):
             raise InvalidEvent(0)
         actions = {"wait": self._wait, "clock": self._set_clock, "delay": self._set_delay, "change": self._change,
                    "alike": self._change_alike, "behind": self._change_behind, "lose": self._lose,
@@ -59,32 +57,9 @@ class Row:
         rest = event[1:]
         return action(*rest)
 
-    def _allows(self, name, rest):
-        """True if an event of a known form can be played now."""
-        if name == "wait":
-            return 1 <= rest[0] <= MOST_WAIT
-        if name in ("change", "alike", "behind"):
-            return self._allows_change(name, rest[0], rest[1])
-        hop = rest[0]
-        if name == "clock":
-            return 1 <= hop <= self.setting.hops + 1 and self.setting.clocks[hop - 1].allows(rest[1])
-        if not 1 <= hop <= self.setting.hops:
-            return False
-        if name == "delay":
-            return 0 <= rest[1] <= self.setting.delays[hop - 1]
-        if name == "lose":
-            return self.setting.loses and rest[1] in ("up", "back")
-        if name == "clip":
-            return self.setting.loses and rest[1] >= 0
-        return True
-
-    def _allows_change(self, name, path, text):
-        """True if the content of the path can be changed to the text by an event of this name."""
-        if not is_path(path) or not is_body(text):
-            return False
-        if name == "behind":
-            return True
-        return path in self._origin.paths and (name == "change" or self.setting.kind.mark == "weak")
+    def _finds_content(self, event):
+        """True unless the event changes a content that is not there."""
+        return event[0] not in ("change", "alike") or event[1] in self._origin.paths
 
     def _wait(self, ticks):
         self._time += ticks

@@ -182,7 +182,22 @@ class NamesTest(unittest.TestCase):
         for name in special:
             self.assertNotIn(name, TAKEN)
             self.assertNotIn(name, plain)
-            self.assertNotIn(name, stored)
+        self.assertFalse(stored & (special.keys() | plain.keys()))
+
+    def test_properties_come_before_their_setters(self):
+        for place, kind in nodes(ast.ClassDef):
+            names = [(node.name, ast.unparse(node.decorator_list[0])) for node in kind.body
+                     if isinstance(node, ast.FunctionDef) and node.decorator_list]
+            for name, decorator in names:
+                if decorator.endswith(".setter"):
+                    self.assertEqual(decorator, name + ".setter", place)
+                    self.assertIn((name, "property"), names[:names.index((name, decorator))], place)
+
+    def test_stars_stand_before_names(self):
+        for place, node in nodes(ast.Call):
+            for one in node.args:
+                if isinstance(one, ast.Starred):
+                    self.assertIsInstance(one.value, (ast.Name, ast.Attribute), place)
 
     def test_read_attributes_exist(self):
         known = {node.attr for _, node in nodes(ast.Attribute) if isinstance(node.ctx, ast.Store)}
@@ -190,7 +205,7 @@ class NamesTest(unittest.TestCase):
         known |= {one.targets[0].id for _, kind in nodes(ast.ClassDef) for one in kind.body
                   if isinstance(one, ast.Assign)}
         for place, node in nodes(ast.Attribute):
-            if not ast.unparse(node).endswith((".__class__", ".__class__.__name__")):
+            if not ast.unparse(node).endswith((".__class__", ".__class__.__name__", ".setter")):
                 self.assertIn(node.attr, known, place)
 
     def test_classes_are_only_asked_for_their_names(self):
